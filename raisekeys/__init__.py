@@ -1,0 +1,1 @@
+"""Raisekeys: overlapping windows, raised and lowered."""
