@@ -4,7 +4,7 @@ import itertools
 import unittest
 from unittest import mock
 
-from raisekeys.desks import MOST_WINDOWS, Desk
+from raisekeys.desks import MOST_WINDOWS, Desk, is_name
 from raisekeys.errors import BadName, BadRectangle, BadSize, Unknown
 
 RIGHT = (0, 0, 4, 4)
@@ -58,6 +58,19 @@ class Names(DeskCase):
     def test_right_names(self):
         for name in ("a", "z", "ab", "abcde", "abcdef", "zzzzzz"):
             self.assertEqual(Desk({name: RIGHT}).names(), [name])
+        for letter in "abcdefghijklmnopqrstuvwxyz":
+            self.assertEqual(Desk({letter: RIGHT}).names(), [letter])
+
+    def test_every_other_character_is_wrong(self):
+        for sign in [chr(code) for code in range(32, 127)] + ["\n"]:
+            if not "a" <= sign <= "z":
+                self.refused({sign: RIGHT}, BadName, sign)
+                self.refused({"a" + sign + "b": RIGHT}, BadName, "a" + sign + "b")
+
+    def test_only_a_text_is_a_name(self):
+        for value in (5, None, ["a"], ("a", "b")):
+            self.assertIs(is_name(value), False, value)
+        self.assertIs(is_name("ab"), True)
 
     def test_wrong_names(self):
         for name in WRONG_NAMES:
