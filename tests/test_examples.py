@@ -3,8 +3,12 @@
 import unittest
 
 from raisekeys.desks import Desk
-from raisekeys.errors import BadRectangle
+from raisekeys.errors import BadFact, BadRectangle, Impossible
+from raisekeys.orders import alike, least_order, wish_of
 from raisekeys.rects import common, covers
+from raisekeys.sights import demanded, seen, tiles
+from raisekeys.steps import flat, script_size
+from raisekeys.wishes import keeps, least_keeping, ring
 
 
 class Examples(unittest.TestCase):
@@ -21,6 +25,34 @@ class Examples(unittest.TestCase):
         with self.assertRaises(BadRectangle) as caught:
             Desk({"a": (0, 0, 4, 4), "b": (3, 0, 3, 5)})
         self.assertEqual(caught.exception.name, "b")
+
+    def test_orders(self):
+        desk = Desk({"b": (3, 0, 9, 5), "a": (0, 0, 4, 4), "c": (20, 0, 21, 1)})
+        found = [alike(desk, ["b", "c", "a"], ["c", "b", "a"]), wish_of(desk, ["c", "b", "a"]),
+                 least_order(desk, ["c", "b", "a"])]
+        self.assertEqual(found, [True, [("b", "a")], ["b", "a", "c"]])
+
+    def test_sights(self):
+        desk = Desk({"b": (1, 0, 5, 2), "a": (0, 0, 3, 1)})
+        found = [tiles(desk, ["b", "a"]), seen(desk, ["b", "a"], 3, 0)]
+        self.assertEqual(found, [[((0, 0, 3, 1), "a"), ((3, 0, 5, 1), "b"), ((1, 1, 5, 2), "b")], "b"])
+        self.assertEqual(demanded(desk, [(2, 0, "a"), (4, 0, "b"), (9, 9, None)]), [("b", "a")])
+
+    def test_a_fact_that_does_not_agree(self):
+        with self.assertRaises(BadFact) as caught:
+            demanded(Desk({"a": (0, 0, 3, 1)}), [(2, 0, "a"), (0, 0, None)])
+        self.assertEqual(caught.exception.at, 1)
+
+    def test_wishes(self):
+        wish = [("c", "a"), ("b", "c")]
+        found = [ring(["a", "b", "c"], wish), keeps(["c", "b", "a"], wish), least_keeping(["a", "b", "c", "d"], wish)]
+        self.assertEqual(found, [None, False, ["b", "c", "a", "d"]])
+        with self.assertRaises(Impossible):
+            least_keeping(["a", "b"], [("a", "b"), ("b", "a")])
+
+    def test_steps(self):
+        script = [("raise", ["a"]), ("repeat", 5, [("lower", ["b"]), ("repeat", 0, [("raise", ["c"])])])]
+        self.assertEqual([script_size(script), flat(script)], [5, [("raise", ["a"]), ("lower", ["b"])]])
 
 
 if __name__ == "__main__":
