@@ -61,9 +61,19 @@ def check_length(steps):
 def check_script(desk, steps):
     """Raise TooLong, or BadStep for the first step of a script that is not a step of the desk."""
     check_length(steps)
-    for at, step in enumerate(steps):
-        if not is_step(desk, step):
-            raise BadStep(at)
+    refuse_first_wrong([is_step(desk, step) for step in steps])
+
+
+def check_plain_script(desk, steps):
+    """Raise TooLong, or BadStep for the first step of a script that is not a plain step of the desk."""
+    check_length(steps)
+    refuse_first_wrong([is_plain_step(desk, step) for step in steps])
+
+
+def refuse_first_wrong(verdicts):
+    """Raise BadStep with the index of the first step that was found wrong."""
+    if False in verdicts:
+        raise BadStep(verdicts.index(False))
 
 
 def is_step(desk, step):

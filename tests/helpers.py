@@ -53,7 +53,7 @@ def shows(order, wish):
 
 
 def drawn_rectangle(source, span):
-    left, top = source.randrange(-span, span), source.randrange(-span, span)
+    left, top = source.randrange(-span // 2, span // 2), source.randrange(-span // 2, span // 2)
     return left, top, left + source.randint(1, span), top + source.randint(1, span)
 
 
@@ -84,3 +84,46 @@ def row_of(count):
 def pile_of(count):
     """A desk of windows that all overlap each other."""
     return Desk({LETTERS[at]: (at, at, at + 50, at + 50) for at in range(count)})
+
+
+def drawn_step(source, desk, span=6):
+    """A plain step of the desk, its names sometimes as a tuple."""
+    word = source.choice(("raise", "lower", "raise", "lower", "place"))
+    if word == "place":
+        return word, source.choice(desk.names()), drawn_rectangle(source, span)
+    return word, source.choice((list, tuple))(source.sample(desk.names(), source.randint(1, len(desk))))
+
+
+def drawn_steps(source, desk, most):
+    """A script of plain steps, at most so many."""
+    return [drawn_step(source, desk) for number in range(source.randint(0, most))]
+
+
+def drawn_script(source, desk, depth, most=3):
+    """A script that is at most so deep, each script in it with at most so many steps."""
+    found = []
+    for step in drawn_steps(source, desk, most):
+        if depth > 1 and source.random() < 0.4:
+            step = ("repeat", source.choice((0, 1, 2, 3)), drawn_script(source, desk, depth - 1, most))
+        found.append(step)
+    return found
+
+
+def naive_run(desk, order, steps):
+    """The desk and the order after a script, by the words of [6], with each repeat run as often as it says."""
+    for step in steps:
+        if step[0] == "repeat":
+            for number in range(step[1]):
+                desk, order = naive_run(desk, order, step[2])
+        elif step[0] == "place":
+            desk = desk.placed(step[1], step[2])
+        else:
+            apart = ([name for name in order if name not in step[1]], [name for name in order if name in step[1]])
+            order = apart[0] + apart[1] if step[0] == "raise" else apart[1] + apart[0]
+    return desk, list(order)
+
+
+def are_alike(desk, one, other):
+    """Whether two orders are alike, by the words of [5]."""
+    return all((one.index(low) < one.index(high)) == (other.index(low) < other.index(high))
+               for low, high in itertools.combinations(desk.names(), 2) if desk.overlap(low, high))

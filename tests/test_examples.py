@@ -3,9 +3,12 @@
 import unittest
 
 from raisekeys.desks import Desk
+from raisekeys.effects import difference, effect, idle
 from raisekeys.errors import BadFact, BadRectangle, Impossible
 from raisekeys.orders import alike, least_order, wish_of
+from raisekeys.plans import chain_count, plan
 from raisekeys.rects import common, covers
+from raisekeys.runs import run
 from raisekeys.sights import demanded, seen, tiles
 from raisekeys.steps import flat, script_size
 from raisekeys.wishes import keeps, least_keeping, ring
@@ -53,6 +56,25 @@ class Examples(unittest.TestCase):
     def test_steps(self):
         script = [("raise", ["a"]), ("repeat", 5, [("lower", ["b"]), ("repeat", 0, [("raise", ["c"])])])]
         self.assertEqual([script_size(script), flat(script)], [5, [("raise", ["a"]), ("lower", ["b"])]])
+
+    def test_runs(self):
+        desk = Desk({"a": (0, 0, 2, 2), "b": (1, 0, 3, 2), "c": (0, 1, 3, 3)})
+        found = run(desk, ["a", "b", "c"], [("raise", ["a", "b"]), ("lower", ["b"])])
+        self.assertEqual(found[1], ["b", "c", "a"])
+
+    def test_effects(self):
+        desk = Desk({"a": (0, 0, 2, 2), "b": (1, 0, 3, 2), "c": (9, 9, 10, 10)})
+        one, other = [("raise", ["a"]), ("raise", ["c"])], [("raise", ["c", "a"]), ("lower", ["b"])]
+        found = [effect(desk, one), difference(desk, one, other), idle(desk, one), idle(desk, other)]
+        self.assertEqual(found, [[("a", "b", "over")], None, [1], [0, 1]])
+
+    def test_plans(self):
+        wish = [("c", "b"), ("b", "a")]
+        kind, steps, bundle = plan(["a", "b", "c"], wish)
+        found = [kind, len(steps), sum([amount for chain, amount in bundle]),
+                 chain_count(["a", "b", "c"], wish, ["c", "b", "a"])]
+        self.assertEqual(found, ["plan", 2, 2, 2])
+        self.assertEqual(plan(["a", "b"], [("b", "a")], fixed=["a", "b"]), ("stuck", ["b", "a"]))
 
 
 if __name__ == "__main__":

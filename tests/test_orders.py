@@ -4,7 +4,7 @@ import itertools
 import random
 import unittest
 
-from helpers import Case, all_orders, drawn_desk, drawn_order, pile_of, row_of
+from helpers import Case, all_orders, are_alike, drawn_desk, drawn_order, pile_of, row_of
 from raisekeys.desks import Desk
 from raisekeys.errors import BadOrder
 from raisekeys.orders import alike, least_order, wish_of
@@ -13,12 +13,6 @@ from raisekeys.orders import alike, least_order, wish_of
 def four():
     """a overlaps b and d, b overlaps d; c overlaps nothing."""
     return Desk({"d": (3, 3, 9, 9), "b": (3, 0, 9, 5), "a": (0, 0, 4, 4), "c": (20, 0, 21, 1)})
-
-
-def are_alike(desk, one, other):
-    """Whether two orders are alike, by the words of [5]."""
-    return all((one.index(low) < one.index(high)) == (other.index(low) < other.index(high))
-               for low, high in itertools.combinations(desk.names(), 2) if desk.overlap(low, high))
 
 
 def exchanged(order, at):
