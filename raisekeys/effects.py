@@ -108,6 +108,6 @@ def needed_moves(desk, steps):
         at = partings(steps, one, other)
         over = [puts_over(steps[index], one) for index in at]
         # Without its last parting step a pair stands as the step before put it, or as at the start.
-        if at and over[-1:] != over[-2:-1]:
+        if over[-1:] != over[-2:-1]:
             found.append(at[-1])
     return found

@@ -46,8 +46,8 @@ def check_known(order, names):
 
 def limits_of(prices, fixed):
     """Return a dict of every window to the most that may begin or end with it in a bundle."""
-    # No bundle has more in all than the windows that can be moved cost, so this is as good as no limit.
-    boundless = sum([prices[name] for name in prices]) + 1
+    # All chains of a fixed window have less in all, because at their other ends stand windows that are not fixed.
+    boundless = sum([prices[name] for name in prices])
     return {name: boundless if name in fixed else prices[name] for name in prices}
 
 

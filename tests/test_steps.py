@@ -124,6 +124,10 @@ class Flat(Case):
             self.assertEqual(self.answer(flat, script), plain)
             self.assertEqual(self.answer(flat, tuple(script)), plain)
 
+    def test_wrong_plain_steps_stay_as_they_are(self):
+        script = [("raise",), ("lower", 5), ("raise", ("a",), 1), ("jump", ("a",)), ("place", ("a",))]
+        self.assertEqual(self.answer(flat, [("repeat", 2, script)]), script)
+
     def test_names_are_returned_as_new_lists(self):
         script = [("raise", ("a", "b")), ("repeat", 1, (("lower", ("c",)), ("lower", ["a"])))]
         self.assertEqual(self.answer(flat, script), [("raise", ["a", "b"]), ("lower", ["c"]), ("lower", ["a"])])
@@ -213,6 +217,10 @@ class WrongSteps(Case):
             self.refused(BadStep, {"at": 0}, check_script, DESK, [wrong])
             self.refused(BadStep, {"at": 2}, check_script, DESK, [UP, DOWN, wrong, UP, ("jump",)])
             self.refused(BadStep, {"at": 1}, check_script, DESK, (PLACE, wrong))
+
+    def test_items_at_the_top_that_are_no_tuples_or_that_are_empty(self):
+        for wrong in ((), [], "raise", 5, None, ["raise", ["a"]], ["place", "a", (0, 0, 1, 1)], ["repeat", 1, [UP]]):
+            self.refused(BadStep, {"at": 1}, check_script, DESK, [UP, wrong, ("jump",)])
 
     def test_each_wrong_step_in_nested_scripts(self):
         for wrong in WRONG:
