@@ -1,9 +1,9 @@
 """Plans: the cheapest moves of single windows after which an order keeps a wish."""
 
 from raisekeys.chains import all_trails, wrong_chain, wrong_count, wrong_ends
-from raisekeys.errors import BadCost, Unknown
+from raisekeys.errors import BadCost
 from raisekeys.flows import Flow
-from raisekeys.wishes import check_wish, least_keeping, ring
+from raisekeys.wishes import check_known, check_wish, least_keeping, ring
 
 MOST_COST = 1000
 
@@ -35,13 +35,6 @@ def checked_prices(order, wish, costs, fixed):
             raise BadCost(name)
     check_known(order, fixed)
     return {name: given.get(name, 1) for name in order}
-
-
-def check_known(order, names):
-    """Raise Unknown for the first name that is no window."""
-    for name in names:
-        if name not in order:
-            raise Unknown(name)
 
 
 def limits_of(prices, fixed):

@@ -1,6 +1,13 @@
 """Wishes: lists of pairs (low, high) of windows, high to stand over low."""
 
-from raisekeys.errors import BadWish, Impossible
+from raisekeys.errors import BadWish, Impossible, Unknown
+
+
+def check_known(names, given):
+    """Raise Unknown for the first of the given texts that is no window."""
+    for name in given:
+        if name not in names:
+            raise Unknown(name)
 
 
 def check_wish(names, wish):

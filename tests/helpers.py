@@ -123,6 +123,15 @@ def naive_run(desk, order, steps):
     return desk, list(order)
 
 
+def scripts_are_alike(desk, one, other):
+    """Whether two scripts are alike, by the words of [8], tried from every order."""
+    for order in all_orders(desk.names()):
+        first, second = naive_run(desk, order, one), naive_run(desk, order, other)
+        if first[0] != second[0] or not are_alike(first[0], first[1], second[1]):
+            return False
+    return True
+
+
 def are_alike(desk, one, other):
     """Whether two orders are alike, by the words of [5]."""
     return all((one.index(low) < one.index(high)) == (other.index(low) < other.index(high))

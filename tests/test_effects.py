@@ -4,8 +4,8 @@ import itertools
 import random
 import unittest
 
-from helpers import Case, all_orders, are_alike, drawn_desk, drawn_script, drawn_step, drawn_steps, naive_run
-from helpers import pile_of, row_of
+from helpers import Case, all_orders, drawn_desk, drawn_script, drawn_step, drawn_steps, naive_run, pile_of, row_of
+from helpers import scripts_are_alike
 from raisekeys.desks import Desk
 from raisekeys.effects import difference, effect, idle, is_difference
 from raisekeys.errors import BadStep, TooLong
@@ -16,15 +16,6 @@ DEEP = [("repeat", 1, [("repeat", 1, [("repeat", 1, [("repeat", 1, [("repeat", 1
 WRONG_SCRIPTS = ((TooLong, {}, [("jump",)] * 401), (TooLong, {}, [("jump",), *DEEP]),
                  (BadStep, {"at": 1}, [UP_A, ("jump",), ("jump",)]), (BadStep, {"at": 0}, [("raise", ["x"])]),
                  (BadStep, {"at": 2}, [UP_A, UP_A, ("repeat", 0, [UP_A, ("raise", [])])]))
-
-
-def scripts_are_alike(desk, one, other):
-    """Whether two scripts are alike, by the words of [8], tried from every order."""
-    for order in all_orders(desk.names()):
-        first, second = naive_run(desk, order, one), naive_run(desk, order, other)
-        if first[0] != second[0] or not are_alike(first[0], first[1], second[1]):
-            return False
-    return True
 
 
 def is_a_difference(desk, one, other, claimed):

@@ -4,13 +4,17 @@ import unittest
 
 from raisekeys.desks import Desk
 from raisekeys.effects import difference, effect, idle
-from raisekeys.errors import BadFact, BadRectangle, Impossible
+from raisekeys.errors import BadFact, BadRectangle, Impossible, NoStamp
+from raisekeys.groups import group_plan, steps_for
+from raisekeys.logs import Log
 from raisekeys.orders import alike, least_order, wish_of
 from raisekeys.plans import chain_count, plan
 from raisekeys.rects import common, covers
 from raisekeys.runs import run
+from raisekeys.shortest import shortest, shortest_groups
 from raisekeys.sights import demanded, seen, tiles
 from raisekeys.steps import flat, script_size
+from raisekeys.stories import contradiction, demands, sure
 from raisekeys.wishes import keeps, least_keeping, ring
 
 
@@ -75,6 +79,40 @@ class Examples(unittest.TestCase):
                  chain_count(["a", "b", "c"], wish, ["c", "b", "a"])]
         self.assertEqual(found, ["plan", 2, 2, 2])
         self.assertEqual(plan(["a", "b"], [("b", "a")], fixed=["a", "b"]), ("stuck", ["b", "a"]))
+
+    def test_groups(self):
+        found = group_plan(["a", "b", "c"], [("c", "b"), ("b", "a")])
+        self.assertEqual([len(found[1]), found[2], steps_for(3), steps_for(4)], [2, ["c", "b", "a"], 2, 3])
+
+    def test_shortest(self):
+        desk = Desk({"a": (0, 0, 2, 2), "b": (1, 0, 3, 2), "c": (0, 1, 3, 3)})
+        script = [("raise", ["a", "b"]), ("raise", ["c"]), ("raise", ["a", "b"])]
+        found = [shortest(desk, script)[:2], len(shortest_groups(desk, script)[1])]
+        self.assertEqual(found, [("script", [("lower", ["c"])]), 1])
+
+    def test_stories(self):
+        desk = Desk({"a": (0, 0, 2, 2), "b": (1, 0, 3, 2), "c": (0, 1, 3, 3)})
+        events = [("see", [(1, 0, "a")]), ("raise", ["c"]), ("see", [(1, 1, "c")])]
+        found = [contradiction(desk, events), demands(desk, events), sure(desk, events, "a", "b"),
+                 sure(desk, events, "b", "c")]
+        self.assertEqual(found, [None, [("b", "a")], "over", "under"])
+
+    def test_a_story_with_a_contradiction(self):
+        desk = Desk({"a": (0, 0, 2, 2), "b": (1, 0, 3, 2)})
+        found = contradiction(desk, [("raise", ["b"]), ("see", [(9, 9, None), (1, 0, "a")])])
+        self.assertEqual(found, ("step", 1, 1, "b", 0))
+
+    def test_logs(self):
+        log = Log(Desk({"a": (0, 0, 2, 2), "b": (1, 0, 3, 2)}), ["a", "b"])
+        log.add((7, "ann"), ("lower", ["a"]))
+        log.add((5, "bob"), ("raise", ["a"]))
+        found = [log.state()[1], log.matters((5, "bob")), log.parting("b", "a")]
+        self.assertEqual(found, [["a", "b"], False, (7, "ann")])
+
+    def test_a_stamp_that_is_not_there(self):
+        with self.assertRaises(NoStamp) as caught:
+            Log(Desk({"a": (0, 0, 2, 2)}), ["a"]).strike((1, "ann"))
+        self.assertEqual(caught.exception.stamp, (1, "ann"))
 
 
 if __name__ == "__main__":
