@@ -1,6 +1,6 @@
 """Group plans: the fewest moves of groups of windows after which an order keeps a wish."""
 
-from raisekeys.wishes import check_wish, places, ring
+from raisekeys.wishes import places, ring
 
 
 def steps_for(count):
@@ -10,7 +10,6 @@ def steps_for(count):
 
 def group_plan(order, wish):
     """Return the fewest raise steps after which the order keeps the wish and a chain that shows it, or a ring."""
-    check_wish(order, wish)
     found = ring(order, wish)
     if found is not None:
         return ("ring", found)

@@ -5,8 +5,10 @@ import itertools
 import unittest
 
 from raisekeys.desks import Desk
+from raisekeys.logs import Log
 
 LETTERS = "abcdefghijklmnopqrstuvwxyz"
+USERS = ("ann", "bob", "z")
 
 
 def spoil(value):
@@ -121,6 +123,27 @@ def naive_run(desk, order, steps):
             apart = ([name for name in order if name not in step[1]], [name for name in order if name in step[1]])
             order = apart[0] + apart[1] if step[0] == "raise" else apart[1] + apart[0]
     return desk, list(order)
+
+
+def drawn_rows(source, desk, count, numbers=30):
+    """So many tuples (stamp, step, struck) with different stamps, in drawn sequence."""
+    stamps = source.sample(list(itertools.product(range(numbers), USERS)), count)
+    return [(stamp, drawn_step(source, desk), source.random() < 0.3) for stamp in stamps]
+
+
+def made_log(rows, desk, order):
+    """A log with these tuples (stamp, step, struck), added in this sequence."""
+    log = Log(desk, order)
+    for stamp, step, struck in rows:
+        log.add(stamp, step)
+        if struck:
+            log.strike(stamp)
+    return log
+
+
+def drawn_log(source, desk, order, count):
+    """A log with so many entries."""
+    return made_log(drawn_rows(source, desk, count), desk, order)
 
 
 def scripts_are_alike(desk, one, other):

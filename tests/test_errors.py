@@ -3,6 +3,17 @@
 import unittest
 
 from raisekeys import errors
+from raisekeys.desks import Desk
+from raisekeys.logs import Log
+from raisekeys.orders import alike
+from raisekeys.pages import read_page
+from raisekeys.plans import plan
+from raisekeys.sessions import Session
+from raisekeys.sights import demanded
+from raisekeys.steps import check_script
+from raisekeys.stories import least_start
+from raisekeys.texts import parse_script
+from raisekeys.wishes import keeps, least_keeping
 
 UNDER_DESK_ERROR = {
     "BadName": "name", "BadRectangle": "name", "BadSize": None, "BadOrder": None, "BadStep": "at",
@@ -19,6 +30,80 @@ def made(word, attribute):
     if attribute is None:
         return getattr(errors, word)()
     return getattr(errors, word)(SAMPLES[attribute])
+
+
+def two():
+    return Desk({"a": (0, 0, 2, 2), "b": (1, 0, 3, 2)})
+
+
+def log_with(*steps):
+    """A log with the stamps (0, "ann"), (1, "ann") and so on."""
+    log = Log(two(), ["a", "b"])
+    for number, step in enumerate(steps):
+        log.add((number, "ann"), step)
+    return log
+
+
+def watched(count):
+    """A session with so many watches."""
+    session = Session(log_with())
+    for number in range(count):
+        session.watch(("cell", number, 0))
+    return session
+
+
+UP, DOWN = ("raise", ["a"]), ("lower", ["a"])
+CALLS = {
+    "BadName": ("X", lambda: Desk({"a": (0, 0, 1, 1), "X": (0, 0, 1, 1)})),
+    "BadRectangle": ("b", lambda: two().placed("b", (0, 0, 0, 1))),
+    "BadSize": (None, lambda: Desk({})),
+    "BadOrder": (None, lambda: alike(two(), ["a", "b"], ["a"])),
+    "BadStep": (2, lambda: check_script(two(), [UP, DOWN, ("jump",)])),
+    "TooLong": (None, lambda: check_script(two(), [UP] * 401)),
+    "BadWish": (1, lambda: keeps(["a", "b"], [("a", "b"), ("a", "a")])),
+    "BadFact": (1, lambda: demanded(two(), [(0, 0, "a"), (0, 0, "b")])),
+    "BadCost": ("b", lambda: plan(["a", "b"], [], costs={"b": 0})),
+    "Impossible": (None, lambda: least_keeping(["a", "b"], [("a", "b"), ("b", "a")])),
+    "BadStamp": (None, lambda: log_with().add((-1, "ann"), UP)),
+    "Taken": ((0, "ann"), lambda: log_with(UP).add((0, "ann"), UP)),
+    "Clash": ((1, "ann"), lambda: log_with(UP, UP).merge(log_with(UP, DOWN))),
+    "OtherLog": (None, lambda: log_with().merge(Log(two(), ["b", "a"]))),
+    "Full": (200, lambda: log_with(*[UP] * 201)),
+    "BadDeed": (1, lambda: Session(log_with()).do_all([("add", (0, "ann"), UP), ("jump",)])),
+    "BadWatch": (None, lambda: watched(0).watch(("pair", "a", "a"))),
+    "BadText": (1, lambda: parse_script("raise a\nraise\n")),
+    "BadPage": (1, lambda: read_page("window a 0 0 1 1\nwindow a 0 0 1 1\n")),
+    "Unknown": ("x", lambda: two().overlap("a", "x")),
+    "NoStamp": ((1, "ann"), lambda: log_with(UP).strike((1, "ann"))),
+    "NoWatch": (2, lambda: watched(1).unwatch(2)),
+    "NothingLeft": (None, lambda: watched(1).undo()),
+}
+
+
+class Calls(unittest.TestCase):
+    def caught(self, call):
+        with self.assertRaises((errors.DeskError, errors.Missing, errors.NothingLeft)) as found:
+            call()
+        return found.exception
+
+    def test_a_call_for_each_error(self):
+        attributes = {**UNDER_DESK_ERROR, **UNDER_MISSING, "NothingLeft": None}
+        self.assertEqual((set(CALLS), len(CALLS)), (set(attributes), 23))
+        for word, (value, call) in CALLS.items():
+            error = self.caught(call)
+            self.assertIs(type(error), getattr(errors, word))
+            expected = {"word": word}
+            if attributes[word] is not None:
+                expected[attributes[word]] = value
+            self.assertEqual(vars(error), expected)
+
+    def test_both_numbers_of_full(self):
+        self.assertEqual(vars(self.caught(lambda: watched(17))), {"word": "Full", "most": 16})
+        self.assertEqual(vars(self.caught(lambda: log_with(*[UP] * 201))), {"word": "Full", "most": 200})
+
+    def test_impossible_stories(self):
+        error = self.caught(lambda: least_start(two(), [("see", [(1, 0, "a"), (1, 0, "b")])]))
+        self.assertIs(type(error), errors.Impossible)
 
 
 class Errors(unittest.TestCase):

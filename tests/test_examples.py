@@ -2,19 +2,23 @@
 
 import unittest
 
+from raisekeys.console import Console
 from raisekeys.desks import Desk
 from raisekeys.effects import difference, effect, idle
-from raisekeys.errors import BadFact, BadRectangle, Impossible, NoStamp
+from raisekeys.errors import BadFact, BadPage, BadRectangle, BadText, Impossible, NoStamp
 from raisekeys.groups import group_plan, steps_for
 from raisekeys.logs import Log
 from raisekeys.orders import alike, least_order, wish_of
+from raisekeys.pages import page, read_page
 from raisekeys.plans import chain_count, plan
 from raisekeys.rects import common, covers
 from raisekeys.runs import run
+from raisekeys.sessions import Session
 from raisekeys.shortest import shortest, shortest_groups
 from raisekeys.sights import demanded, seen, tiles
 from raisekeys.steps import flat, script_size
 from raisekeys.stories import contradiction, demands, sure
+from raisekeys.texts import format_step, parse_script
 from raisekeys.wishes import keeps, least_keeping, ring
 
 
@@ -113,6 +117,38 @@ class Examples(unittest.TestCase):
         with self.assertRaises(NoStamp) as caught:
             Log(Desk({"a": (0, 0, 2, 2)}), ["a"]).strike((1, "ann"))
         self.assertEqual(caught.exception.stamp, (1, "ann"))
+
+    def test_sessions(self):
+        session = Session(Log(Desk({"a": (0, 0, 2, 2), "b": (1, 0, 3, 2)}), ["a", "b"]))
+        number = session.watch(("cell", 1, 1))
+        session.do_all([("add", (1, "ann"), ("raise", ["a"])), ("add", (2, "bob"), ("place", "b", (1, 1, 3, 3)))])
+        found = [number, session.answers(), session.news(), session.news(), session.turns()]
+        self.assertEqual(found, [1, [(1, "a")], [1], [], (1, 0)])
+
+    def test_texts(self):
+        found = [format_step(("place", "ab", (0, -3, 5, 4))), parse_script("raise b a\nlower c\n")]
+        self.assertEqual(found, ["place ab 0 -3 5 4", [("raise", ["b", "a"]), ("lower", ["c"])]])
+        with self.assertRaises(BadText) as caught:
+            parse_script("raise b\nraise b b\n")
+        self.assertEqual(caught.exception.at, 1)
+
+    def test_pages(self):
+        log = Log(Desk({"a": (0, 0, 2, 2), "b": (1, 0, 3, 2)}), ["b", "a"])
+        log.add((7, "ann"), ("lower", ["a"]))
+        self.assertEqual(page(log), "window b 1 0 3 2\nwindow a 0 0 2 2\nentry 7 ann lower a\n")
+        with self.assertRaises(BadPage) as caught:
+            read_page("window b 1 0 3 2\nentry 7 ann lower a\n")
+        self.assertEqual(caught.exception.row, 1)
+
+    def test_console(self):
+        console = Console(Session(Log(Desk({"a": (0, 0, 2, 2), "b": (1, 0, 3, 2)}), ["a", "b"])))
+        found = [console.execute("add 3 ann raise a"), console.execute("order"), console.execute("fewest a b")]
+        self.assertEqual(found, ["ok", "b a", "1 1"])
+
+    def test_a_console_with_an_error_and_an_unknown_line(self):
+        console = Console(Session(Log(Desk({"a": (0, 0, 2, 2)}), ["a"])))
+        found = [console.execute("undo"), console.execute("seen 1 1"), console.execute("raise a"), len(console)]
+        self.assertEqual(found, ["error NothingLeft", "a", "unknown", 3])
 
 
 if __name__ == "__main__":

@@ -6,7 +6,8 @@ import itertools
 import random
 import unittest
 
-from helpers import Case, drawn_desk, drawn_order, drawn_step, naive_run, pile_of, row_of, scripts_are_alike, spoil
+from helpers import USERS, Case, drawn_desk, drawn_order, drawn_rows, drawn_step, made_log, naive_run, pile_of, row_of
+from helpers import scripts_are_alike, spoil
 from raisekeys.desks import Desk
 from raisekeys.errors import BadOrder, BadStamp, BadStep, Clash, Full, NoStamp, OtherLog, Taken, Unknown
 from raisekeys.logs import MOST_ENTRIES, Log
@@ -22,28 +23,16 @@ WRONG_STAMPS = ((), (1,), ("ann",), (1, "ann", 2), (1, "ann", "bob"), (-1, "ann"
 WRONG_STEPS = (("jump",), ("repeat", 1, []), ("repeat", 0, [UP]), ("raise",), ("raise", []), ("raise", ["x"]),
                ("raise", ["a", "a"]), ("lower", ["a"], 1), ("lower", "a"), ("place", "a"), ("place", "x", (0, 0, 1, 1)),
                ("place", "a", (0, 0, 0, 1)), ("place", "a", (0, 0, 1)), ("see", []))
-USERS = ("ann", "bob", "z")
 
 
 def made(rows, desk=DESK, order=None):
-    """A log with these tuples (stamp, step, struck), added in this sequence."""
-    log = Log(desk, ORDER if order is None else order)
-    for stamp, step, struck in rows:
-        log.add(stamp, step)
-        if struck:
-            log.strike(stamp)
-    return log
+    """A log with these tuples (stamp, step, struck)."""
+    return made_log(rows, desk, ORDER if order is None else order)
 
 
 def listed(step):
     """A step with its names as a list."""
     return step if step[0] == "place" else (step[0], list(step[1]))
-
-
-def drawn_rows(source, desk, count, numbers=30):
-    """So many tuples (stamp, step, struck) with different stamps, in drawn sequence."""
-    stamps = source.sample(list(itertools.product(range(numbers), USERS)), count)
-    return [(stamp, drawn_step(source, desk), source.random() < 0.3) for stamp in stamps]
 
 
 class LogCase(Case):
@@ -164,6 +153,7 @@ class Refusals(LogCase):
         for wrong in WRONG_STAMPS:
             for step in (UP, ("jump",)):
                 self.deny(BadStamp, {}, log, "add", wrong, step)
+        self.deny(BadStamp, {}, log, "add", [2, "ann"], UP)
 
     def test_wrong_steps(self):
         log = made([((1, "ann"), UP, True)])

@@ -3,6 +3,7 @@
 import unittest
 
 from helpers import Case, row_of
+from raisekeys.console import Console
 from raisekeys.effects import difference, effect, idle, is_difference
 from raisekeys.errors import BadOrder, BadStep, BadWish, TooLong
 from raisekeys.groups import group_plan
@@ -10,6 +11,7 @@ from raisekeys.logs import Log
 from raisekeys.orders import alike, least_order, wish_of
 from raisekeys.plans import chain_count, is_bundle, plan
 from raisekeys.runs import run
+from raisekeys.sessions import Session
 from raisekeys.shortest import climb_count, is_lift, shortest, shortest_groups
 from raisekeys.sights import seen, tiles
 from raisekeys.steps import check_script
@@ -69,6 +71,13 @@ WRONG_STEPS = (("jump",), ("",), ("see", []), ("raise",), ("raise", []), ("raise
 
 
 class Refusals(Case):
+    def test_orders_of_a_console(self):
+        console = Console(Session(Log(DESK, ORDER)))
+        for wrong in WRONG_ORDERS:
+            # Neither an empty word nor a word with a blank can stand in a line.
+            if wrong and not any(word == "" or " " in word for word in wrong):
+                self.assertEqual(console.execute(" ".join(["fewest", *wrong])), "error BadOrder", wrong)
+
     def test_orders(self):
         for name, function in TAKE_ORDERS.items():
             for wrong in (*WRONG_ORDERS, *map(tuple, WRONG_ORDERS)):

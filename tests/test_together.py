@@ -1,17 +1,22 @@
-"""Over the whole program: what plans, group plans and shortest scripts promise, shown by `run`."""
+"""Over the whole program: what plans and shortest scripts promise, shown by `run`; logs, pages, sessions and consoles."""
 
 import random
 import unittest
 
-from helpers import Case, drawn_desk, drawn_order, drawn_script
+from helpers import Case, drawn_desk, drawn_log, drawn_order, drawn_script, made_log
+from raisekeys.console import Console
 from raisekeys.effects import difference
 from raisekeys.groups import group_plan
+from raisekeys.logs import Log
 from raisekeys.orders import alike, wish_of
+from raisekeys.pages import page, read_page
 from raisekeys.plans import plan
 from raisekeys.runs import run
+from raisekeys.sessions import Session
 from raisekeys.shortest import shortest, shortest_groups
 from raisekeys.sights import seen, tiles
 from raisekeys.stories import demands, least_start
+from raisekeys.texts import format_script, parse_script
 from raisekeys.wishes import keeps
 
 
@@ -59,6 +64,78 @@ class Runs(Case):
                 self.assertEqual([(x, y, seen(desk, reached, x, y)) for x, y, name in facts], facts)
             first = least_start(desk, events)
             self.assertEqual([(x, y, seen(desk, first, x, y)) for x, y, name in facts], facts)
+
+
+class Logs(Case):
+    def drawn(self, seed):
+        """Logs of drawn desks, with struck entries among them."""
+        source = random.Random(seed)
+        for number in range(30):
+            desk = drawn_desk(source, source.choice((1, 3, 6, 24)))
+            yield source, drawn_log(source, desk, drawn_order(source, desk), source.choice((0, 3, 12)))
+
+    def check_same(self, one, other):
+        self.assertEqual(one, other)
+        self.assertEqual((one.entries(), one.state(), page(one)), (other.entries(), other.state(), page(other)))
+
+    def test_logs_made_anew_from_their_entries_in_another_order(self):
+        for source, log in self.drawn(4):
+            rows = source.sample(log.entries(), len(log))
+            self.check_same(made_log(rows, log.desk(), log.order()), log)
+
+    def test_logs_merged_from_logs_of_one_entry(self):
+        for source, log in self.drawn(5):
+            found = Log(log.desk(), log.order())
+            for row in source.sample(log.entries(), len(log)):
+                found.merge(made_log([row], log.desk(), log.order()))
+            self.check_same(found, log)
+
+    def test_pages_as_console_lines(self):
+        for source, log in self.drawn(6):
+            console = Console(Session(Log(log.desk(), log.order())))
+            rows = page(log).splitlines()[len(log.desk()):]
+            for row in source.sample(rows, len(rows)):
+                word, number, user, *step = row.split(" ")
+                self.assertEqual(console.execute(row), "unknown")
+                self.assertEqual(console.execute(" ".join(["add", number, user, *step])), "ok")
+                if word == "struck":
+                    self.assertEqual(console.execute(f"strike {number} {user}"), "ok")
+            self.check_same(console.session().log(), log)
+            self.assertEqual(console.execute("order"), " ".join(log.state()[1]))
+            for name in log.desk().names():
+                self.assertEqual(console.execute(f"rectangle {name}"), " ".join(map(str, log.state()[0].rectangle(name))))
+            for stamp, step, struck in log.entries():
+                self.assertEqual(console.execute(f"idle {stamp[0]} {stamp[1]}"), "no" if log.matters(stamp) else "yes")
+
+    def test_sessions_made_anew_from_the_page_of_their_log(self):
+        for source, log in self.drawn(7):
+            session = Session(log)
+            session.do_all([("strike", row[0]) for row in log.entries()[::2]])
+            session.do(("merge", drawn_log(random.Random(8), log.desk(), log.order(), 0)))
+            anew = Session(read_page(page(session.log())))
+            self.assertEqual(anew, session)
+            self.assertEqual((anew.desk(), anew.order(), len(anew)), (session.desk(), session.order(), len(session)))
+            self.assertEqual(anew.turns(), (0, 0))
+
+    def test_the_state_of_a_log_is_that_of_its_script(self):
+        for source, log in self.drawn(9):
+            steps = [step for stamp, step, struck in log.entries() if not struck]
+            self.assertEqual(run(log.desk(), log.order(), steps), log.state())
+            self.assertEqual(parse_script(format_script(steps)), steps)
+
+    def test_fewest_moves_of_a_console_lead_to_the_order(self):
+        for source, log in self.drawn(10):
+            console = Console(Session(log))
+            desk, order = log.state()
+            goal = drawn_order(source, desk)
+            wish = wish_of(desk, goal)
+            for at, found in enumerate((plan(order, wish), group_plan(order, wish))):
+                self.assertEqual(console.execute(" ".join(["fewest", *goal])).split(" ")[at], str(len(found[1])))
+                twin = Console(console.session().twin())
+                for number, row in enumerate(format_script(found[1]).splitlines()):
+                    self.assertEqual(twin.execute(f"add {1000 + number} ann {row}"), "ok")
+                self.assertTrue(alike(desk, twin.session().order(), goal))
+                self.assertEqual(twin.execute(" ".join(["fewest", *goal])), "0 0")
 
 
 if __name__ == "__main__":
